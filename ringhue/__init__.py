@@ -1,0 +1,1 @@
+"""Ringhue: hues by names alone, in few rounds."""
