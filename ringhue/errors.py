@@ -1,5 +1,8 @@
 """The refusals of the program, each with what it was refused for."""
 
+# No message tells the number of a house: Python writes none of more than some
+# thousand figures, and a refusal can be of any whole number.
+
 
 class HueError(ValueError):
     """Any refusal."""
@@ -9,7 +12,7 @@ class NotProper(HueError):
     """A house has the label of its next."""
 
     def __init__(self, house):
-        super().__init__(f"house {house} has the label of its next")
+        super().__init__("a house has the label of its next")
         self.house = house
 
 
@@ -17,7 +20,7 @@ class NoHouse(HueError):
     """There is no house of that number."""
 
     def __init__(self, house):
-        super().__init__(f"there is no house {house}")
+        super().__init__("there is no house of that number")
         self.house = house
 
 
@@ -25,7 +28,7 @@ class NotReady(HueError):
     """A house can't go yet, or has no rounds left."""
 
     def __init__(self, house):
-        super().__init__(f"house {house} can't go")
+        super().__init__("the house can't go")
         self.house = house
 
 

@@ -8,6 +8,12 @@ OF_HOUSES = (NotProper, NoHouse, NotReady)
 OF_TEXTS = (NoText, NoRow)
 ALL = OF_HOUSES + OF_TEXTS
 HOUSES = (0, 1, 59, 60, -1, SIXTY_FIGURES, -SIXTY_FIGURES)
+GREAT_HOUSES = tuple(
+    sign * (10 ** figures + more)
+    for figures in (4299, 4300, 5000, 20000)
+    for more in (-1, 0, 1)
+    for sign in (1, -1)
+)
 TEXTS = ("", " ", "1 2", "\t\n", "9" * 5000, "~" * 6000)
 
 
@@ -59,6 +65,23 @@ class Fields(unittest.TestCase):
                     self.assertIs(type(refusal.house), int)
                     self.assertFalse(hasattr(refusal, "text"))
                     self.assertIsInstance(str(refusal), str)
+
+    def test_houses_of_any_size(self):
+        # Python itself writes no number of more than 4300 figures.
+        for kind in OF_HOUSES:
+            for at, house in enumerate(GREAT_HOUSES):
+                with self.subTest(kind=kind.__name__, at=at):
+                    refusal = kind(house)
+                    self.assertIs(type(refusal), kind)
+                    self.assertIsInstance(refusal, HueError)
+                    self.assertIsInstance(refusal, ValueError)
+                    self.assertIs(type(refusal.house), int)
+                    self.assertTrue(refusal.house == house)
+                    self.assertIsInstance(str(refusal), str)
+                    self.assertIsInstance(repr(refusal), str)
+                    with self.assertRaises(kind) as caught:
+                        raise kind(house)
+                    self.assertTrue(caught.exception.house == house)
 
     def test_text_is_what_it_was_made_of(self):
         for kind in OF_TEXTS:
