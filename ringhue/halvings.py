@@ -14,10 +14,15 @@ def halvings(m):
     return told
 
 
+def needed_steps(m):
+    """Tell how many steps names for m need."""
+    return len(halvings(m)) - 1
+
+
 def shortenings(pointing, names, m):
     """Tell the labels behind each step that names for m need, the names first."""
     told = [names]
-    for _ in halvings(m)[1:]:
+    for _ in range(needed_steps(m)):
         told.append(step(pointing, told[-1]))
     return told
 

@@ -1,7 +1,7 @@
 """Hues taken away, two rounds each, till three are left."""
 
-from ringhue.halvings import halvings, shortenings
-from ringhue.steps import check_proper
+from ringhue.halvings import needed_steps, shortenings
+from ringhue.steps import check_proper, stepped
 
 LEFT_HUES = (0, 1, 2)
 # What shortened labels have beside the hues that are left, in the turn in which it goes.
@@ -14,25 +14,22 @@ def taken_over(pointing, labels):
     return tuple([labels[goal] for goal in pointing])
 
 
-def least_left(ahead, goal_label):
-    """Tell the least hue that is neither a house's own one ahead nor its next's now."""
-    return min([hue for hue in LEFT_HUES if hue not in (ahead, goal_label)])
-
-
-def given_up(pointing, ahead, labels, hue):
-    """The second round: who has the hue takes another; ahead are the labels before the first."""
-    told = list(labels)
-    for house, goal in enumerate(pointing):
-        if labels[house] == hue:
-            told[house] = least_left(ahead[house], labels[goal])
-    return tuple(told)
+def given_up(ahead, label, goal_label, hue):
+    """The second round of one house: its label then; ahead is that before the first round."""
+    if label != hue:
+        return label
+    return min([left for left in LEFT_HUES if left not in (ahead, goal_label)])
 
 
 def both_rounds(pointing, labels, hue):
     """Tell the labels behind each of the two rounds; NotProper where they are not proper."""
     check_proper(pointing, labels)
     first = taken_over(pointing, labels)
-    return [first, given_up(pointing, labels, first, hue)]
+    second = [
+        given_up(labels[house], first[house], first[goal], hue)
+        for house, goal in enumerate(pointing)
+    ]
+    return [first, tuple(second)]
 
 
 def taken_away(pointing, labels, hue):
@@ -55,4 +52,19 @@ def hues(pointing, names, m):
 
 def rounds(m):
     """Tell how many rounds names for m need: the steps and two for each hue that goes."""
-    return len(halvings(m)) - 1 + ROUNDS_EACH * len(GONE_HUES)
+    return needed_steps(m) + ROUNDS_EACH * len(GONE_HUES)
+
+
+def next_label(m, own, goal_label):
+    """Tell the label of one house behind one round more.
+
+    own are its labels so far, the name for m first; goal_label is its next's
+    behind as many rounds.
+    """
+    done = len(own) - 1
+    if done < needed_steps(m):
+        return stepped(own[-1], goal_label)
+    turn, second = divmod(done - needed_steps(m), ROUNDS_EACH)
+    if second == 0:
+        return goal_label
+    return given_up(own[-2], own[-1], goal_label, GONE_HUES[turn])

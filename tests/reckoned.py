@@ -1,5 +1,8 @@
 """What the program is held against: the same promises, reckoned in another way."""
 
+from functools import lru_cache
+from itertools import product
+
 
 def names_below(many, m):
     """So many unlike numbers below m, where m is 10 ** 9 or more and no multiple of the prime."""
@@ -62,3 +65,53 @@ def all_labels(pointing, names, m):
 
 def clashing(pointing, labels):
     return [house for house in range(len(pointing)) if labels[house] == labels[pointing[house]]]
+
+
+def window_hue(window, m):
+    """The hue of a window, from its end back: each label asks for the two or three it needs."""
+    steps = len(halvings(m)) - 1
+
+    @lru_cache(maxsize=None)
+    def label(behind, at):
+        if behind == 0:
+            return window[at]
+        mine, its = label(behind - 1, at), label(behind - 1, at + 1)
+        if behind <= steps:
+            return stepped(mine, its)
+        turn = behind - steps
+        if turn in (1, 3, 5):
+            return its
+        if mine != {2: 5, 4: 4, 6: 3}[turn]:
+            return mine
+        return min({0, 1, 2} - {its, label(behind - 2, at)})
+
+    return label(steps + 6, 0)
+
+
+def rising(m, many):
+    """The rising tuples of so many unlike numbers below m, a rising list."""
+    return [row for row in product(range(m), repeat=many)
+            if all(one < behind for one, behind in zip(row, row[1:]))]
+
+
+def stands(m, t):
+    return rising(m, t + 1)
+
+
+def overlaps(m, t):
+    """Each two places in a table whose stands make one rising tuple of one number more."""
+    places = stands(m, t)
+    return [(one, other) for one, first in enumerate(places) for other, second in enumerate(places)
+            if first[1:] == second[:-1] and first[0] < second[-1]]
+
+
+def lowered(m, t, table):
+    longer_ones = list(zip(stands(m, t), table))
+    row = []
+    for stand in stands(m, t - 1):
+        row.append(tuple(sorted({hue for longer, hue in longer_ones if longer[:t] == stand})))
+    sets = []
+    for one in row:
+        if one not in sets:
+            sets.append(one)
+    return [sets.index(one) for one in row], sets

@@ -1,5 +1,6 @@
 """Things that several tests hand in."""
 
+import random
 from itertools import product
 
 import reckoned
@@ -7,6 +8,8 @@ import reckoned
 SIXTY_FIGURES = int("9" * 60)
 # The greatest label, and the greatest number that names are below.
 GREATEST = 10 ** 18
+# What is no whole number, though Python takes two of them for one.
+NO_NUMBERS = (True, False, None, "", "0", "1", [], [0], (), (0,))
 
 RING = (1, 2, 3, 4, 0)
 # Houses 0, 1, 2 stand in a ring, 3 and 4 hang on it one behind the other, 5 beside them.
@@ -74,3 +77,45 @@ def proper_labels(pointing):
     for _ in range(5):
         found.append(reckoned.step(pointing, found[-1]))
     return found
+
+
+def drawn_pointings(many):
+    """So many pointings, drawn alike in each run."""
+    draw = random.Random(15)
+    found = []
+    for at in range(many):
+        houses = 2 + at * 58 // (many - 1)
+        goals = [draw.randrange(houses - 1) for _ in range(houses)]
+        found.append(tuple(goal + (goal >= house) for house, goal in enumerate(goals)))
+    return found
+
+
+def drawn_names(pointing, m, draw):
+    """Unlike names below m for a pointing."""
+    found = []
+    while len(found) < len(pointing):
+        name = draw.randrange(m)
+        if name not in found:
+            found.append(name)
+    return tuple(found)
+
+
+def right_tables(m, t):
+    """Some right tables of m and t, t from 0 to 2."""
+    places = reckoned.stands(m, t)
+    found = [list(range(len(places)))]
+    found.append([hue * 3 + 1 for hue in reversed(found[0])])
+    # No two stands that overlap have the same first, middle or last number.
+    for at in range(t + 1):
+        found.append([stand[at] for stand in places])
+    if t:
+        found.append([few_hues(stand) for stand in places])
+    return found + [[SIXTY_FIGURES - hue * 10 ** 50 for hue in table] for table in found]
+
+
+def few_hues(stand):
+    """A hue of a stand of two or three numbers below 16: from 0 to 3 of two, to 5 of three."""
+    if len(stand) == 2:
+        low, high = format(stand[0], "04b"), format(stand[1], "04b")
+        return [one == other for one, other in zip(low, high)].index(False)
+    return reckoned.stepped(few_hues(stand[:2]), few_hues(stand[1:]))
