@@ -1,5 +1,7 @@
 """Houses that point each to another one, and the roads along them."""
 
+from ringhue.errors import NoHouse
+
 LEAST_HOUSES = 2
 MOST_HOUSES = 60
 
@@ -13,6 +15,12 @@ def is_whole(thing):
 def is_house(thing, many):
     """Tell of anything whether it is one of so many houses."""
     return is_whole(thing) and 0 <= thing < many
+
+
+def check_house(pointing, number):
+    """Refuse a whole number with NoHouse where it is no house of a pointing."""
+    if not is_house(number, len(pointing)):
+        raise NoHouse(number)
 
 
 def is_pointing(thing):
@@ -30,4 +38,12 @@ def road(pointing, house, k):
     told = [house]
     for _ in range(k):
         told.append(pointing[told[-1]])
+    return told
+
+
+def tied_ones(pointing):
+    """Tell for each house the ones that it is tied to, its next first."""
+    told = [[goal] for goal in pointing]
+    for house, goal in enumerate(pointing):
+        told[goal].append(house)
     return told

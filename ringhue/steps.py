@@ -20,6 +20,11 @@ def check_proper(pointing, labels):
         raise NotProper(houses[0])
 
 
+def by_hue(labels):
+    """Tell the houses hue by hue, the least hue first, those of one hue rising."""
+    return sorted(range(len(labels)), key=lambda house: (labels[house], house))
+
+
 def unlike_place(one, other):
     """Tell the least place at which two unlike numbers, written by twos, differ."""
     unlike = one ^ other

@@ -8,9 +8,14 @@ from ringhue.houses import is_pointing
 MOST_FIGURES = 2
 
 
+def written(numbers):
+    """Write numbers, one blank between."""
+    return " ".join([str(number) for number in numbers])
+
+
 def shown(pointing):
     """Write a pointing: its numbers, one blank between."""
-    return " ".join([str(goal) for goal in pointing])
+    return written(pointing)
 
 
 def is_number(word):
@@ -21,12 +26,16 @@ def is_number(word):
     return word == "0" or not word.startswith("0")
 
 
+def numbers_of(words, figures):
+    """Tell the numbers of words; None where one is no number or has more than so many figures."""
+    if not all([is_number(word) and len(word) <= figures for word in words]):
+        return None
+    return [int(word) for word in words]
+
+
 def read(text):
     """Read the pointing that a text writes; NoText where it writes none."""
-    words = text.split(" ")
-    if not all([is_number(word) and len(word) <= MOST_FIGURES for word in words]):
+    numbers = numbers_of(text.split(" "), MOST_FIGURES)
+    if numbers is None or not is_pointing(tuple(numbers)):
         raise NoText(text)
-    pointing = tuple([int(word) for word in words])
-    if not is_pointing(pointing):
-        raise NoText(text)
-    return pointing
+    return tuple(numbers)

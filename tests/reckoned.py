@@ -115,3 +115,57 @@ def lowered(m, t, table):
         if one not in sets:
             sets.append(one)
     return [sets.index(one) for one in row], sets
+
+
+def ties(pointing):
+    """Each two houses that are tied, as a frozenset, whichever way they point."""
+    return {frozenset((house, pointing[house])) for house in range(len(pointing))}
+
+
+def is_apart(pointing, houses):
+    """Whether unlike houses are a full apart set, as the words say it."""
+    for tie in ties(pointing):
+        if tie <= set(houses):
+            return False
+    covered = set(houses)
+    for tie in ties(pointing):
+        if tie & set(houses):
+            covered |= tie
+    return len(covered) == len(pointing)
+
+
+def apart(pointing, labels):
+    """All houses of one hue at once, hue by hue."""
+    found = set()
+    for hue in (0, 1, 2):
+        barred = {house for tie in ties(pointing) if tie & found for house in tie}
+        coming = {house for house, label in enumerate(labels) if label == hue and house not in barred}
+        found |= coming
+    return sorted(found)
+
+
+def is_paired(pointing, pairs):
+    """Whether tuples are full pairs, as the words say it."""
+    if list(pairs) != sorted(set(pairs)):
+        return False
+    if any(pointing[house] != goal for house, goal in pairs):
+        return False
+    houses = [house for pair in pairs for house in pair]
+    if any(houses.count(house) > 1 for house in houses):
+        return False
+    return all(tie & set(houses) for tie in ties(pointing))
+
+
+def paired(pointing, labels):
+    """All houses of one hue ask at once, hue by hue."""
+    found = {}
+    for hue in (0, 1, 2):
+        taken = set(found) | set(found.values())
+        asking = {}
+        for house in range(len(pointing)):
+            goal = pointing[house]
+            if labels[house] == hue and house not in taken and goal not in taken:
+                asking.setdefault(goal, []).append(house)
+        for goal, houses in asking.items():
+            found[min(houses)] = goal
+    return sorted(found.items())

@@ -79,6 +79,20 @@ def proper_labels(pointing):
     return found
 
 
+def three_hues(pointing):
+    """Some proper labels of 0, 1 and 2 of a pointing."""
+    many = len(pointing)
+    draw = random.Random(many)
+    found = []
+    for m, names in names_for(many)[-4:] + [(GREATEST, drawn_names(pointing, GREATEST, draw)) for _ in range(8)]:
+        told = reckoned.all_labels(pointing, names, m)[-1]
+        found.append(told)
+        # Any of the six other ways to name three hues is right as well.
+        found.append(tuple(2 - hue for hue in told))
+        found.append(tuple((hue + 1) % 3 for hue in told))
+    return found
+
+
 def drawn_pointings(many):
     """So many pointings, drawn alike in each run."""
     draw = random.Random(15)
